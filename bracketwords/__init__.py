@@ -1,0 +1,1 @@
+"""Words of letters and their backs, where deep brackets count as nothing."""
