@@ -2,6 +2,14 @@
 
 import random
 
+# The letters and the depth of every ground that there is.
+PAIRS = [
+    (1, 1), (1, 2), (1, 3), (1, 4), (1, 5),
+    (2, 1), (2, 2), (2, 3), (2, 4), (2, 5),
+    (3, 1), (3, 2), (3, 3), (3, 4),
+    (4, 1), (4, 2), (4, 3),
+]
+
 
 def made_words(letters, sizes, seed):
     """For each size a word of the letters and their backs, always the same for the same seed."""
