@@ -1,6 +1,7 @@
 """Grounds: how many letters there are, and to which depth brackets count."""
 
 from bracketwords.errors import NoGround, NoPlace
+from bracketwords.sums import rest_powers, scattered
 from bracketwords.turning import halves, is_turnword
 from bracketwords.words import bracketed, plain_words
 
@@ -22,6 +23,9 @@ class Ground:
         self.numbered = {word: place for place, word in enumerate(self.turned)}
         self.parted = all_partings(self.plain)
         self.ended = all_endings(self.plain)
+        self.standing = tuple([number for number, word in enumerate(self.plain) if word in self.numbered])
+        # Rows ask for these again and again, so they are reckoned here once.
+        self.powered = [all_powers(self, place) for place in range(len(self.turned))]
 
     def letters(self):
         """How many letters there are."""
@@ -80,6 +84,14 @@ class Ground:
         """For each word with that last letter, in order, its number and that of the word without it."""
         return self.ended.get(letter, ())
 
+    def standings(self):
+        """For each place, in order, the number that its turnword has among the words."""
+        return self.standing
+
+    def bracket_powers(self, place):
+        """The powers of the sums of the place's bracket less those of the empty word, from the noughth on."""
+        return self.powered[place]
+
 
 def words_up_to(letters, depth):
     """All plain words of none to depth letters, by their sizes, then rising."""
@@ -106,3 +118,9 @@ def all_endings(words):
         letter: tuple([(numbers[word], numbers[word[:-1]]) for word in words if word[-1:] == (letter,)])
         for letter in letters
     }
+
+
+def all_powers(ground, place):
+    """What the ground tells as bracket_powers, as tuples."""
+    powers = rest_powers(ground, scattered(ground, ground.bracket_at(place)))
+    return tuple([tuple(power) for power in powers])

@@ -34,15 +34,29 @@ def sums_backed(ground, one):
 
 def sums_repeated(ground, one, n):
     """The sums of the word repeated any number of times, by the word's sums."""
-    # The sums are 1 + x, where x has nought for the empty word, so that no more than depth x's
-    # joined come to something: 1 + x to the n is the choices of k out of n times x to the k.
+    return powers_chosen(rest_powers(ground, one), n)
+
+
+def rest_powers(ground, one):
+    """The powers of the sums less those of the empty word, from the noughth on, as many as are not all noughts."""
+    # Without the empty word each power has only words of more letters than the one before it,
+    # so that none is left beyond the ground's depth.
     rest = [0] + list(one[1:])
-    power = empty_sums(ground)
-    told = [0 for number in power]
-    for k in range(ground.depth() + 1):
+    powers = [empty_sums(ground)]
+    power = rest
+    while any(power):
+        powers.append(power)
+        power = sums_joined(ground, power, rest)
+    return powers
+
+
+def powers_chosen(powers, n):
+    """The sums of a word repeated n times, by the powers that rest_powers tells of its sums."""
+    # The sums are 1 + x, and 1 + x to the n is the choices of k out of n times x to the k.
+    told = [0 for number in powers[0]]
+    for k, power in enumerate(powers):
         times = chosen(n, k)
         told = [worth + times * more for worth, more in zip(told, power)]
-        power = sums_joined(ground, power, rest)
     return told
 
 

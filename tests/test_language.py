@@ -110,6 +110,26 @@ class Trees(unittest.TestCase):
                 if isinstance(node, ast.BinOp) and isinstance(node.op, ast.Pow):
                     self.assertIsInstance(node.right, ast.Constant, name)
 
+    def test_what_is_iterated_at_once_is_not_stored(self):
+        at_once = ("zip", "enumerate", "reversed", "range", "items", "keys", "values")
+        for name, tree in self.trees:
+            for node in ast.walk(tree):
+                if isinstance(node, (ast.Assign, ast.AugAssign, ast.Return)) and isinstance(node.value, ast.Call):
+                    called = node.value.func
+                    word = called.attr if isinstance(called, ast.Attribute) else getattr(called, "id", None)
+                    self.assertNotIn(word, at_once, (name, node.lineno))
+
+    def test_no_two_files_import_from_each_other(self):
+        needs = {
+            name: [node.module.split(".")[1] + ".py" for node in tree.body if isinstance(node, ast.ImportFrom)]
+            for name, tree in self.trees
+        }
+        while needs:
+            free = [name for name in needs if not any(other in needs for other in needs[name])]
+            self.assertNotEqual(free, [], needs)
+            for name in free:
+                del needs[name]
+
     def test_short_functions(self):
         for name, tree in self.trees:
             for node in ast.walk(tree):

@@ -7,14 +7,12 @@ import unittest
 from bracketwords.choices import chosen
 from bracketwords.grounds import Ground
 from bracketwords.sums import scattered, sums_backed, sums_joined, sums_repeated
-from bracketwords.words import backed, bracketed, joined, repeated, shortened
-from tests.making import PAIRS, check_handing, check_own_list, is_number, made_plain_words, made_words
+from bracketwords.words import backed, joined, repeated, shortened
+from tests.making import (
+    all_shapes, check_handing, check_own_list, each_ground, empty_sums, few_words, is_number, made_plain_words, made_words
+)
 
 GREAT = [10 ** 29, -10 ** 29, 10 ** 29 - 12345, 3 - 10 ** 28, 10 ** 9 + 7, 1, 0, -1]
-
-
-def each_ground():
-    return [Ground(letters, depth) for letters, depth in PAIRS]
 
 
 def walked_sums(ground, word):
@@ -32,33 +30,6 @@ def walked_sums(ground, word):
 
     walk(0, (), 1)
     return [counts[known] for known in ground.words()]
-
-
-def empty_sums(ground):
-    return [1 if word == () else 0 for word in ground.words()]
-
-
-def few_words(ground):
-    """Short words on the ground, with and without backs."""
-    letters = ground.letters()
-    every = [step for letter in range(1, letters + 1) for step in (letter, -letter)]
-    return (
-        [(), (1,), (-1,), (-letters,), (1, -1), (-1, 1), (1, 1), (-1, -1), tuple(every)]
-        + made_words(letters, [2, 3, 4, 5, 7, 9, 12], "few")
-        + made_plain_words(letters, [2, 3, 5, 8], "few plain")
-    )
-
-
-def all_shapes(leaves):
-    """The brackets of the words in order, in every shape."""
-    if len(leaves) == 1:
-        return [leaves[0]]
-    return [
-        bracketed(one, other)
-        for at in range(1, len(leaves))
-        for one in all_shapes(leaves[:at])
-        for other in all_shapes(leaves[at:])
-    ]
 
 
 class Handing(unittest.TestCase):
