@@ -9,6 +9,16 @@ def nothing(ground):
     return (0,) * ground.places()
 
 
+def place_row(ground, place):
+    """The row of the place's bracket alone."""
+    return tuple([1 if at == place else 0 for at in range(ground.places())])
+
+
+def letter_rows(ground):
+    """The list of the rows of the ground's letters."""
+    return [place_row(ground, place) for place in range(ground.letters())]
+
+
 def rows_joined(ground, one, other):
     """The row of both rows' words, joined."""
     return row_by(ground, sums_joined(ground, sums_of(ground, one), sums_of(ground, other)))

@@ -132,3 +132,76 @@ def check_own_list(case, asked, *handed):
     case.assertEqual(second, kept)
     case.assertEqual(asked(*handed), kept)
     return kept
+
+
+def as_lists(thing):
+    """The same with a list in the place of each tuple, at any depth."""
+    return [as_lists(one) for one in thing] if isinstance(thing, (tuple, list)) else thing
+
+
+def as_tuples(thing):
+    """The same with a tuple in the place of each list, at any depth."""
+    return tuple(as_tuples(one) for one in thing) if isinstance(thing, (tuple, list)) else thing
+
+
+def lists_in(thing):
+    """All lists in it, at any depth, itself too where it is one."""
+    found = [thing] if isinstance(thing, list) else []
+    if isinstance(thing, (tuple, list)):
+        for one in thing:
+            found.extend(lists_in(one))
+    return found
+
+
+def kinds_in(thing):
+    """The same thing with each of its tuples and lists named, so that a list is not taken for a tuple."""
+    if isinstance(thing, (tuple, list)):
+        return (type(thing).__name__, [kinds_in(one) for one in thing])
+    return (type(thing).__name__, thing)
+
+
+def check_asking(case, asked, *handed):
+    """What point [2] asks: tells the answer, after lists, tuples and both were handed in, and the told was changed."""
+    told = asked(*handed)
+    kept = kinds_in(told)
+    for shape in (as_lists, as_tuples, lists_of_tuples):
+        given = [shape(one) for one in handed]
+        before = kinds_in(given)
+        first, second = asked(*given), asked(*given)
+        case.assertEqual(kinds_in(first), kept)
+        case.assertEqual(kinds_in(given), before)
+        every = lists_in(first) + lists_in(second)
+        every += [one for thing in given for one in lists_in(thing)]
+        case.assertEqual(len({id(one) for one in every}), len(every))
+        for one in lists_in(first):
+            one.append("changed")
+            one.reverse()
+        case.assertEqual(kinds_in(second), kept)
+        case.assertEqual(kinds_in(given), before)
+        case.assertEqual(kinds_in(asked(*given)), kept)
+    return told
+
+
+def lists_of_tuples(thing):
+    """Lists outside, tuples in them."""
+    return [as_tuples(one) for one in thing] if isinstance(thing, (tuple, list)) else thing
+
+
+def drawn_group(ground, source, most=4):
+    """Rows that make a group: none to so many, of numbers up to 99, begun with noughts now and then."""
+    rows = []
+    for time in range(source.randrange(most + 1)):
+        if rows and source.randrange(5) == 0:
+            rows.append(source.choice(rows))
+            continue
+        size = source.choice((1, 3, 12, 99))
+        row = [source.randint(-size, size) for place in range(ground.places())]
+        for place in range(source.choice((0, 0, 1, source.randrange(ground.places() + 1)))):
+            row[place] = 0
+        rows.append(tuple(row))
+    return rows
+
+
+def small_grounds():
+    """Every ground of at most 8 places."""
+    return [ground for ground in each_ground() if ground.places() <= 8]
