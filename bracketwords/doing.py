@@ -1,7 +1,7 @@
 """Doing: rows joined, backed, raised and bracketed, as their words are."""
 
 from bracketwords.rows import row_by, sums_of
-from bracketwords.sums import sums_backed, sums_joined, sums_repeated
+from bracketwords.sums import sums_backed, sums_bracketed, sums_joined, sums_repeated
 
 
 def nothing(ground):
@@ -36,9 +36,7 @@ def row_raised(ground, row, n):
 
 def rows_bracketed(ground, one, other):
     """The row of the bracket of both rows' words."""
-    first, second = sums_of(ground, one), sums_of(ground, other)
-    backs = sums_joined(ground, sums_backed(ground, first), sums_backed(ground, second))
-    return row_by(ground, sums_joined(ground, backs, sums_joined(ground, first, second)))
+    return row_by(ground, sums_bracketed(ground, sums_of(ground, one), sums_of(ground, other)))
 
 
 def row_turned(ground, row, other):

@@ -4,7 +4,7 @@ from bracketwords.doing import letter_rows, nothing, row_backed, rows_joined
 from bracketwords.errors import NoPut
 from bracketwords.rows import row_by, sums_of
 from bracketwords.rules import MOST_DEPTH, MOST_PLACES
-from bracketwords.sums import empty_sums, sums_backed, sums_joined, sums_repeated
+from bracketwords.sums import empty_sums, sums_backed, sums_bracketed, sums_joined, sums_repeated
 
 
 class Put:
@@ -83,9 +83,7 @@ def bracket_sums(ground, goal, rows):
     told = [sums_of(goal, row) for row in rows]
     for place in range(ground.letters(), ground.places()):
         parts = ground.parts_at(place)
-        one, other = told[parts[0]], told[parts[1]]
-        backs = sums_joined(goal, sums_backed(goal, one), sums_backed(goal, other))
-        told.append(sums_joined(goal, backs, sums_joined(goal, one, other)))
+        told.append(sums_bracketed(goal, told[parts[0]], told[parts[1]]))
     return told
 
 

@@ -32,6 +32,12 @@ def sums_backed(ground, one):
     return sums_repeated(ground, one, -1)
 
 
+def sums_bracketed(ground, one, other):
+    """The sums of the bracket of two words, by the sums of both."""
+    backs = sums_joined(ground, sums_backed(ground, one), sums_backed(ground, other))
+    return sums_joined(ground, backs, sums_joined(ground, one, other))
+
+
 def sums_repeated(ground, one, n):
     """The sums of the word repeated any number of times, by the word's sums."""
     return powers_chosen(rest_powers(ground, one), n)
