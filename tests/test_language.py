@@ -109,6 +109,20 @@ class Trees(unittest.TestCase):
                     self.assertFalse(isinstance(node.value, str) and "%" in node.value, name)
                 if isinstance(node, ast.BinOp) and isinstance(node.op, ast.Pow):
                     self.assertIsInstance(node.right, ast.Constant, name)
+                    self.assertIn(node.right.value, range(65), name)
+
+    def test_module_level_values(self):
+        for name, tree in self.trees:
+            above = []
+            for node in tree.body:
+                if isinstance(node, ast.FunctionDef):
+                    above.append(node.name)
+                elif isinstance(node, ast.Assign):
+                    self.assertEqual([type(target) for target in node.targets], [ast.Name], name)
+                    for part in ast.walk(node.value):
+                        self.assertNotIsInstance(part, (ast.Call, ast.ListComp, ast.DictComp, ast.Set), name)
+                        self.assertFalse(isinstance(part, ast.Name) and part.id not in above, (name, node.lineno))
+                    self.assertNotIn(node.targets[0].id, above, name)
 
     def test_what_is_iterated_at_once_is_not_stored(self):
         at_once = ("zip", "enumerate", "reversed", "range", "items", "keys", "values")
